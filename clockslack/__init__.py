@@ -1,0 +1,1 @@
+"""Clockslack: logs of one cell whose clocks are off."""
