@@ -41,10 +41,15 @@ def is_tolerance(value):
     return is_integer_within(value, 0, GREATEST_TOLERANCE)
 
 
+def is_index(log, value):
+    """Tell whether any value is an index of the log."""
+    return is_integer_within(value, 0, len(log) - 1)
+
+
 def surely_before(log, tolerance, one, other):
     """Tell whether one operation is surely before another one."""
     for index in (one, other):
-        if not _is_index(log, index):
+        if not is_index(log, index):
             raise NoIndex(index)
     return log[one][END] + tolerance < log[other][BEGIN]
 
@@ -62,7 +67,3 @@ def _are_stamps(begin, end):
 
 def _is_stamp(value):
     return is_integer_within(value, -GREATEST_STAMP, GREATEST_STAMP)
-
-
-def _is_index(log, value):
-    return is_integer_within(value, 0, len(log) - 1)

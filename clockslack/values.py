@@ -12,7 +12,7 @@ def values_of(log):
 
 def operations_of(log, value):
     """Return the indexes of the operations of a value, ascending."""
-    _demand_value(log, value)
+    demand_value(log, value)
     return tuple([index for index, operation in enumerate(log) if operation[VALUE] == value])
 
 
@@ -26,28 +26,62 @@ def write_of(log, value):
 
 def first_end(log, value):
     """Return the first end of a value, None for 0."""
-    indexes = operations_of(log, value)
-    if value == 0:
-        return None
-    return min([log[index][END] for index in indexes])
+    demand_value(log, value)
+    return spans_of(log)[value][0]
 
 
 def last_begin(log, value):
     """Return the last begin of a value."""
-    return max([log[index][BEGIN] for index in operations_of(log, value)])
+    demand_value(log, value)
+    return spans_of(log)[value][1]
 
 
 def is_before(log, tolerance, one, other):
     """Tell whether one value is before another one."""
-    _demand_value(log, one)
-    _demand_value(log, other)
-    if one == other:
-        return False
-    # The first end of 0 is less than every integer.
-    return one == 0 or first_end(log, one) + tolerance < last_begin(log, other)
+    demand_value(log, one)
+    demand_value(log, other)
+    spans = spans_of(log)
+    return one != other and is_span_before(spans[one], spans[other], tolerance)
 
 
-def _demand_value(log, value):
+def demand_value(log, value):
+    """Raise NoValue if any value is not a value of the log."""
     # A bool is checked for first: True in (1, 2) would hold.
     if not is_integer(value) or value not in values_of(log):
         raise NoValue(value)
+
+
+def ended_first(log):
+    """Map each value to the least index of its operations with its first end."""
+    found = {}
+    for index, operation in enumerate(log):
+        value = operation[VALUE]
+        if value not in found or operation[END] < log[found[value]][END]:
+            found[value] = index
+    return found
+
+
+def begun_last(log):
+    """Map each value to the least index of its operations with its last begin."""
+    found = {}
+    for index, operation in enumerate(log):
+        value = operation[VALUE]
+        if value not in found or operation[BEGIN] > log[found[value]][BEGIN]:
+            found[value] = index
+    return found
+
+
+def spans_of(log):
+    """Map each value to its span: the pair of its first end, None for 0, and its last begin."""
+    ended = ended_first(log)
+    begun = begun_last(log)
+    spans = {value: (log[ended[value]][END], log[begun[value]][BEGIN]) for value in ended}
+    if 0 in spans:
+        spans[0] = (None, spans[0][1])
+    return spans
+
+
+def is_span_before(one, other, tolerance):
+    """Tell whether a value with one span is before a different value with the other span."""
+    # The first end of 0 is less than every integer.
+    return one[0] is None or one[0] + tolerance < other[1]

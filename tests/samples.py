@@ -4,6 +4,10 @@ LOG = (("write", 1, 0, 10), ("read", 1, 2, 4), ("write", 2, 6, 8), ("read", 1, 1
 ZERO = (("write", 1, 0, 1), ("read", 0, 5, 6))
 EARLY = (("read", 1, 0, 2), ("write", 1, 5, 6))
 LOST = (("read", 7, 0, 1),)
+TWO = (("write", 1, 0, 5), ("write", 2, 3, 8), ("read", 0, 1, 2))
+
+STAMP = 10 ** 15
+GREATEST_TOLERANCE = 10 ** 16
 
 
 def nested(value, depth):

@@ -19,6 +19,30 @@ FUNCTIONS = {
         "last_begin": ["log", "value"],
         "is_before": ["log", "tolerance", "one", "other"],
     },
+    "faults": {
+        "faults": ["log", "tolerance"],
+        "shows_fault": ["log", "tolerance", "value"],
+        "bound_of": ["log", "fault"],
+    },
+    "orders": {
+        "explains": ["log", "tolerance", "value"],
+        "can_explain": ["log", "tolerance"],
+        "order_for": ["log", "tolerance"],
+        "moments": ["log", "tolerance", "order"],
+        "shows_moments": ["log", "tolerance", "value"],
+    },
+    "least": {
+        "least_tolerance": ["log"],
+        "tight": ["log"],
+        "evidence": ["log"],
+        "shows_least": ["log", "tolerance", "value"],
+    },
+    "choices": {
+        "must_precede": ["log", "tolerance", "one", "other"],
+        "positions": ["log", "tolerance", "value"],
+        "order_with": ["log", "tolerance", "value", "position"],
+        "final_values": ["log", "tolerance"],
+    },
 }
 
 
