@@ -2,7 +2,7 @@
 
 from clockslack.errors import Unexplained
 from clockslack.operations import BEGIN, END, KIND, READ, VALUE, WRITE, is_index, surely_before
-from clockslack.values import begun_last, ended_first, is_span_before, spans_of, values_of
+from clockslack.values import are_spans_crossed, begun_last, ended_first, spans_of, values_of, writes_of
 
 UNWRITTEN = "unwritten"
 EARLY = "early"
@@ -15,13 +15,7 @@ INDEXES = {"unwritten": 1, "early": 2, "crossed": 4, "late": 2}
 
 def faults(log, tolerance):
     """Give faults within a tolerance: unwritten and early ones by index, then one for each pair of values."""
-    writes = _writes_of(log)
-    for read, operation in enumerate(log):
-        if operation[VALUE] != 0 and operation[VALUE] not in writes:
-            yield (UNWRITTEN, read)
-    for read, operation in enumerate(log):
-        if operation[VALUE] in writes and surely_before(log, tolerance, read, writes[operation[VALUE]]):
-            yield (EARLY, read, writes[operation[VALUE]])
+    yield from faults_within_values(log, tolerance)
     ended = ended_first(log)
     begun = begun_last(log)
     for one, other in _pairs_before_each_other(log, tolerance):
@@ -57,6 +51,17 @@ def bound_of(log, fault):
     return _gap(log, fault[1], fault[2])
 
 
+def faults_within_values(log, tolerance):
+    """Give the faults that have operations of one value only: unwritten ones by index, then early ones."""
+    writes = writes_of(log)
+    for read, operation in enumerate(log):
+        if operation[VALUE] != 0 and operation[VALUE] not in writes:
+            yield (UNWRITTEN, read)
+    for read, operation in enumerate(log):
+        if operation[VALUE] in writes and surely_before(log, tolerance, read, writes[operation[VALUE]]):
+            yield (EARLY, read, writes[operation[VALUE]])
+
+
 def first_fault(log, tolerance):
     """Return the first fault that faults gives, None if there is none."""
     for fault in faults(log, tolerance):
@@ -71,18 +76,13 @@ def demand_explained(log, tolerance):
         raise Unexplained(fault)
 
 
-def _writes_of(log):
-    return {operation[VALUE]: index for index, operation in enumerate(log) if operation[KIND] == WRITE}
-
-
 def _pairs_before_each_other(log, tolerance):
-    writes = _writes_of(log)
+    writes = writes_of(log)
     spans = spans_of(log)
     values = [value for value in values_of(log) if value == 0 or value in writes]
     for at, one in enumerate(values):
         for other in values[at + 1:]:
-            if (is_span_before(spans[one], spans[other], tolerance)
-                    and is_span_before(spans[other], spans[one], tolerance)):
+            if are_spans_crossed(spans[one], spans[other], tolerance):
                 yield (one, other)
 
 
@@ -97,7 +97,7 @@ def _has_form(log, value):
 
 
 def _is_unwritten(log, read):
-    return log[read][VALUE] != 0 and log[read][VALUE] not in _writes_of(log)
+    return log[read][VALUE] != 0 and log[read][VALUE] not in writes_of(log)
 
 
 def _is_early(log, fault):

@@ -23,7 +23,7 @@ def is_operation(value):
     if not isinstance(value, tuple) or len(value) != 4:
         return False
     kind, held, begin, end = value
-    return _fits_kind(kind, held) and _are_stamps(begin, end)
+    return _fits_kind(kind, held) and are_stamps(begin, end)
 
 
 def is_log(value):
@@ -46,6 +46,11 @@ def is_index(log, value):
     return is_integer_within(value, 0, len(log) - 1)
 
 
+def are_stamps(begin, end):
+    """Tell whether any two values can be the begin and the end of an operation."""
+    return _is_stamp(begin) and _is_stamp(end) and begin <= end
+
+
 def surely_before(log, tolerance, one, other):
     """Tell whether one operation is surely before another one."""
     for index in (one, other):
@@ -59,10 +64,6 @@ def _fits_kind(kind, held):
         # 0 is what the cell has at first: it can be read, but not written.
         return is_integer_within(held, 1, GREATEST_VALUE)
     return kind == READ and is_integer_within(held, 0, GREATEST_VALUE)
-
-
-def _are_stamps(begin, end):
-    return _is_stamp(begin) and _is_stamp(end) and begin <= end
 
 
 def _is_stamp(value):

@@ -18,10 +18,8 @@ def operations_of(log, value):
 
 def write_of(log, value):
     """Return the index of the write of a value, None if there is none."""
-    for index in operations_of(log, value):
-        if log[index][KIND] == WRITE:
-            return index
-    return None
+    demand_value(log, value)
+    return writes_of(log).get(value, None)
 
 
 def first_end(log, value):
@@ -46,9 +44,19 @@ def is_before(log, tolerance, one, other):
 
 def demand_value(log, value):
     """Raise NoValue if any value is not a value of the log."""
-    # A bool is checked for first: True in (1, 2) would hold.
-    if not is_integer(value) or value not in values_of(log):
+    if not is_value(log, value):
         raise NoValue(value)
+
+
+def is_value(log, value):
+    """Tell whether any value is a value of the log."""
+    # A bool is checked for first: True in (1, 2) would hold.
+    return is_integer(value) and value in values_of(log)
+
+
+def writes_of(log):
+    """Map each value that is written to the index of its write."""
+    return {operation[VALUE]: index for index, operation in enumerate(log) if operation[KIND] == WRITE}
 
 
 def ended_first(log):
@@ -85,3 +93,8 @@ def is_span_before(one, other, tolerance):
     """Tell whether a value with one span is before a different value with the other span."""
     # The first end of 0 is less than every integer.
     return one[0] is None or one[0] + tolerance < other[1]
+
+
+def are_spans_crossed(one, other, tolerance):
+    """Tell whether two different values with these spans are before each other."""
+    return is_span_before(one, other, tolerance) and is_span_before(other, one, tolerance)

@@ -6,6 +6,12 @@ import unittest
 from clockslack.errors import CellError
 
 
+def by_position(function, arguments):
+    """Call with all arguments by position but by, which is passed by name only."""
+    named = {name: value for name, value in arguments.items() if name == "by"}
+    return function(*[value for name, value in arguments.items() if name != "by"], **named)
+
+
 class Checked(unittest.TestCase):
 
     def result(self, function, **arguments):
@@ -13,7 +19,7 @@ class Checked(unittest.TestCase):
         # The text also tells True from 1, which are equal.
         before = repr(arguments)
         backwards = {name: arguments[name] for name in reversed(arguments)}
-        found = function(*arguments.values())
+        found = by_position(function, arguments)
         for again in (function(**backwards), function(**copy.deepcopy(arguments))):
             self.assertEqual(repr(again), repr(found))
         self.assertEqual(repr(arguments), before)
@@ -29,7 +35,7 @@ class Checked(unittest.TestCase):
         """Check that exactly this error is raised, in each way to call, with these attributes."""
         before = repr(arguments)
         backwards = {name: arguments[name] for name in reversed(arguments)}
-        for call in (lambda: function(*arguments.values()), lambda: function(**backwards),
+        for call in (lambda: by_position(function, arguments), lambda: function(**backwards),
                      lambda: function(**arguments)):
             with self.assertRaises(CellError) as held:
                 call()

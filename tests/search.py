@@ -1,6 +1,6 @@
 """A search through all orders and all faults of a small log, by the words of section 3."""
 
-from itertools import permutations, product
+from itertools import combinations, permutations, product
 
 
 def surely_before(log, tolerance, one, other):
@@ -130,3 +130,36 @@ def given_faults(log, tolerance):
             else:
                 found.append(("crossed", first[one], last[other], first[other], last[one]))
     return found
+
+
+def readable_by_search(log, tolerance, begin, end):
+    """List the values, 0 and those that are written, of a further read with which an order explains the log."""
+    written = sorted(operation[1] for operation in log if operation[0] == "write")
+    return [value for value in [0] + written
+            if any(stamps_right(log + (("read", value, begin, end),), tolerance, order)
+                   for order in orders_that_read_right(log + (("read", value, begin, end),)))]
+
+
+def left_of(log, values):
+    return tuple(operation for operation in log if operation[1] not in values)
+
+
+def weight_of(log, values, by):
+    return len(values) if by == "values" else len(log) - len(left_of(log, values))
+
+
+def sets_of_values(log):
+    """Yield every set of values of a log, as an ascending tuple."""
+    values = values_in(log)
+    for count in range(len(values) + 1):
+        yield from combinations(values, count)
+
+
+def leasts_without(log, least):
+    """Pair every set of values of a log with the least tolerance of the rest, as a function tells it."""
+    return [(values, least(left_of(log, values))) for values in sets_of_values(log)]
+
+
+def fewest_of(log, pairs, tolerance, by):
+    """Return the least weight of the sets, with their least tolerances, that suffice within a tolerance."""
+    return min(weight_of(log, values, by) for values, least in pairs if least is not None and least <= tolerance)
