@@ -52,14 +52,14 @@ class Recorder:
             raise BadOperation(operation)
         if value in writes_of(self.log):
             raise Written(value)
-        return self._record(operation)
+        return self._add_operation(operation)
 
     def read(self, value, begin, end):
         """Append a read and return its index."""
         operation = (READ, value, begin, end)
         if not is_operation(operation):
             raise BadOperation(operation)
-        return self._record(operation)
+        return self._add_operation(operation)
 
     def allow(self, tolerance):
         """Replace the tolerance."""
@@ -87,7 +87,7 @@ class Recorder:
         made.states = self.states
         return made
 
-    def _record(self, operation):
+    def _add_operation(self, operation):
         index = len(self.log)
         if index >= Recorder.MOST:
             raise TooMany(Recorder.MOST)

@@ -5,6 +5,8 @@ import builtins
 import pathlib
 import unittest
 
+from names import excluded_names
+
 PACKAGE = pathlib.Path(__file__).resolve().parent.parent / "clockslack"
 LIBRARY = ("heapq", "math", "itertools", "collections", "__future__")
 ALLOWED = (
@@ -81,7 +83,10 @@ class Language(unittest.TestCase):
                 self.assertIn(node.id, ALLOWED, place)
             for name in bound_names(node):
                 self.assertFalse(hasattr(builtins, name), f"{place} {name}")
-                self.assertRegex(name, r"\A(_|_?[A-Za-z][A-Za-z0-9_]*)\Z", place)
+
+    def test_names(self):
+        for name, text in self.files():
+            self.assertEqual(excluded_names(text), [], name)
 
     def test_methods(self):
         for place, node in self.nodes(ast.ClassDef):
